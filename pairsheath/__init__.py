@@ -1,0 +1,1 @@
+"""Pairsheath: pairs of points, and why none are better."""
