@@ -39,6 +39,7 @@ PARTS_OUT = "dataclass overload contextmanager".split()
 NAMES_OUT = """register mro elements open input version_info with_traceback add_note attrgetter breakpoint builtins
     compile copyright credits delattr dir eval exec exit gc getattr globals hasattr help id importlib license locals
     methodcaller os quit setattr super type vars sys chr format format_map""".split()
+WALKING = "list tuple dict sorted sum any all enumerate zip min max".split()
 VALUES_OUT = """items keys values pop update append clear extend insert remove reverse setdefault sort args encode
     format""".split()
 
@@ -55,6 +56,20 @@ def walked():
     for name, tree in trees():
         for node in ast.walk(tree):
             yield f"{name}:{getattr(node, 'lineno', 0)}", node
+
+
+def beneath():
+    """Each node with its place and the nodes above it, the nearest one last."""
+    for name, tree in trees():
+        ahead = [(tree, [])]
+        while ahead:
+            node, above = ahead.pop()
+            yield f"{name}:{getattr(node, 'lineno', 0)}", node, above
+            ahead.extend((inner, above + [node]) for inner in ast.iter_child_nodes(node))
+
+
+def is_call_of(node, names):
+    return isinstance(node, ast.Call) and isinstance(node.func, ast.Name) and node.func.id in names
 
 
 def bound_names(tree):
@@ -216,6 +231,27 @@ class NodesTest(unittest.TestCase):
                 for inner in ast.walk(node.type):
                     if isinstance(inner, ast.Name):
                         self.assertNotIn(inner.id, ("Exception", "TypeError"), f"L19 {place}")
+
+    def test_sets_are_not_kept(self):
+        for place, node, above in beneath():
+            if is_call_of(node, ("set", "frozenset")):
+                while isinstance(above[-1], ast.BinOp):
+                    above = above[:-1]
+                if isinstance(above[-1], ast.Compare):
+                    continue
+                self.assertTrue(is_call_of(above[-1], ("sorted", "len")), f"L24 {place}")
+                self.assertEqual(above[-1].keywords, [], f"L24 {place}")
+
+    def test_walked_at_once(self):
+        for place, node, above in beneath():
+            called = isinstance(node, ast.Call) and isinstance(node.func, ast.Attribute)
+            method = called and node.func.attr in ("items", "keys", "values")
+            if method or is_call_of(node, ("zip", "enumerate", "reversed", "range")):
+                if isinstance(above[-1], (ast.For, ast.comprehension)):
+                    self.assertIs(above[-1].iter, node, f"L23 {place}")
+                else:
+                    self.assertTrue(is_call_of(above[-1], WALKING), f"L23 {place}")
+                    self.assertIs(above[-1].args[0], node, f"L23 {place}")
 
     def test_powers(self):
         for place, node in walked():

@@ -4,15 +4,9 @@ import unittest
 
 from pairsheath.parts import odd_parts, parts
 from pairsheath.webs import Web
+from trying import every_web
 
 FEW = 5
-
-
-def every_web(many):
-    """Each web of so many points, by its ties."""
-    couples = list(itertools.combinations(range(many), 2))
-    for kept in itertools.product((False, True), repeat=len(couples)):
-        yield Web(many, [(a, b, a - b) for (a, b), keep in zip(couples, kept) if keep])
 
 
 def every_out(many):

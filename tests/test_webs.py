@@ -4,11 +4,7 @@ import unittest
 
 from pairsheath.errors import BadTie, TooMany, Twice
 from pairsheath.webs import Web
-
-SIXTY = 10**60 - 1
-# Longer than what Python 3.11 writes as a text.
-ENDLESS = 10**5000
-FAR_OFF = (SIXTY, -SIXTY, ENDLESS, -ENDLESS)
+from trying import FAR_OFF, SIXTY
 
 
 def all_ties(many):
