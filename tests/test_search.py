@@ -8,10 +8,7 @@ from pairsheath.parts import odd_parts
 from pairsheath.rows import exchanged, turns
 from pairsheath.search import better
 from pairsheath.webs import Web
-from trying import SIXTY, chance_choice, chance_web, every_choice, every_web, full_web, seen, web_of
-
-# Rings of three points, one within the other: 1 2 3, then this one as a point with 4 and 5, then 6 and 7.
-NESTED = [(1, 2), (2, 3), (1, 3), (3, 4), (4, 5), (2, 5), (5, 6), (6, 7), (4, 7)]
+from trying import NESTED, SIXTY, chance_choice, chance_web, every_choice, every_web, full_web, round_ring, seen, web_of
 
 
 class SearchCase(unittest.TestCase):
@@ -84,10 +81,10 @@ class SmallTest(SearchCase):
 class OddRingTest(SearchCase):
     def test_odd_rings_alone(self):
         for many in (3, 5, 7, 9):
-            web = web_of(many, [(at, (at + 1) % many) for at in range(many)])
+            web = web_of(many, round_ring(range(many)))
             self.hold_all(web)
         for many in (11, 23):
-            web = web_of(many, [(at, (at + 1) % many) for at in range(many)])
+            web = web_of(many, round_ring(range(many)))
             for first in range(many):
                 points = [(first + at) % many for at in range(many - 1)]
                 pairs = sorted(tuple(sorted(points[at:at + 2])) for at in range(0, many - 1, 2))
