@@ -1,17 +1,15 @@
 import inspect
-import itertools
 import random
 import unittest
 
-from pairsheath.choices import is_choice
 from pairsheath.most import most, reason
 from pairsheath.parts import odd_parts
 from pairsheath.rows import exchanged
 from pairsheath.search import better
 from pairsheath.webs import Web
 from trying import (
-    NESTED, SIXTY, along_row, best_choices, chance_choice, chance_web, every_choice, every_web, full_web, round_ring,
-    seen, shapes, web_of, weighed,
+    NESTED, SIXTY, ToldCase, along_row, best_choices, chance_choice, chance_web, every_choice, every_web, full_web,
+    round_ring, seen, shapes, side_by_side, web_of, weighed,
 )
 
 
@@ -20,24 +18,7 @@ def counted(web, out):
     return web.size() + len(out) - len(odd_parts(web, out))
 
 
-class MostCase(unittest.TestCase):
-    def hold_choice(self, web, pairs):
-        """Hold a list against the words: a choice of the web, lesser ends first, sorted."""
-        self.assertIs(type(pairs), list)
-        self.assertEqual(pairs, sorted(pairs))
-        for a, b in pairs:
-            self.assertLess(a, b)
-            self.assertIsNotNone(web.weight(a, b))
-        points = list(itertools.chain.from_iterable(pairs))
-        self.assertEqual(len(points), len(set(points)))
-        self.assertIs(is_choice(web, pairs), True)
-
-    def hold_out(self, web, out):
-        """Hold a list against the words: points of the web, rising, each once."""
-        self.assertIs(type(out), list)
-        self.assertEqual(out, sorted(set(out)))
-        self.assertTrue(all(type(point) is int and 0 <= point < web.size() for point in out), out)
-
+class MostCase(ToldCase):
     def hold(self, web):
         """Both answers: the count alone shows that no choice has more pairs."""
         pairs = most(web)
@@ -144,8 +125,7 @@ class ShapesTest(MostCase):
         for times in range(60):
             one = chance_web(chance, 11, chance.choice((10, 20, 40)))
             other = chance_web(chance, 13, chance.choice((10, 20, 40)))
-            ties = one.ties() + [(a + 11, b + 11, weight) for a, b, weight in other.ties()]
-            both = Web(24, ties)
+            both = side_by_side(one, other)
             self.assertEqual(len(self.hold(both)), len(self.hold(one)) + len(self.hold(other)))
 
 

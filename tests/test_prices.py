@@ -5,22 +5,9 @@ import random
 import unittest
 
 from pairsheath.prices import cut_price, cut_sum, inner_price, inner_sum
-from trying import SIXTY, every_choice, full_web
+from trying import SIXTY, by_words, every_choice, full_web, sums_by_words
 
 GREAT = 10**400 + 7
-
-
-def by_words(prices, a, b):
-    """The cut price and the inner price of two points, as the promise has them."""
-    under, points, sets = prices
-    cut = inner = points[a] + points[b]
-    for members, price in sets:
-        there = [point for point in (a, b) if point in members]
-        if len(there) == 1:
-            cut += price
-        if len(there) == 2:
-            inner += price
-    return cut, inner
 
 
 def chance_prices(chance, many, numbers):
@@ -52,12 +39,7 @@ class PricesCase(unittest.TestCase):
         """All that prices tell, held against the words."""
         for a, b in itertools.combinations(range(len(prices[1])), 2):
             self.hold(prices, a, b, *by_words(prices, a, b))
-        cut = inner = sum(prices[1])
-        for members, price in prices[2]:
-            cut += price
-            # Each pair of a set's points but one takes two of them.
-            inner += price * len(members[1::2])
-        self.hold_sums(prices, cut, inner)
+        self.hold_sums(prices, *sums_by_words(prices))
 
 
 class TwoPointsTest(PricesCase):
