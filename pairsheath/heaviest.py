@@ -11,9 +11,10 @@ def gain(web, a, b):
 
 
 def filled(web):
-    """A web in which all points can be paired, each two of them at the cost of their lost gain.
+    """A web in which each two points are tied, the weight being their gain with its sign turned.
 
-    To an odd number of points one more is added, which brings nothing.
+    So what pairs all points at least worth gains the most. To an odd number of
+    points one more is added, which brings nothing.
     """
     many = web.size() + web.size() % 2
     ties = []
